@@ -1,0 +1,1 @@
+"""Endkeepers: what must be kept of a row whose ends come and go."""

@@ -1,0 +1,58 @@
+"""The interface: what stands in which file, with which arguments."""
+
+import ast
+import inspect
+import pathlib
+from importlib import import_module
+
+from tests.helping import Case
+
+PACKAGE = pathlib.Path(__file__).resolve().parent.parent / "endkeepers"
+
+FUNCTIONS = {
+    "tellers": {
+        "teller_error": ["value"], "kinds": ["teller"], "row_error": ["many", "value"],
+        "told": ["teller", "row"], "least": ["teller"], "parting_row": ["one", "other"],
+    },
+    "joining": {
+        "mirrored": ["teller"], "paired": ["one", "other"], "joined": ["some"], "changed": ["teller", "table"],
+    },
+}
+CLASSES = {
+    "errors": [
+        "KeeperError", "Unfit", "BadText", "BadLog", "BadRun", "Refused", "TooMany",
+        "NothingToUndo", "NothingToRedo", "TooManyEdits",
+    ],
+}
+
+
+def defined_in(module, kind):
+    """The names that the file of a module defines itself."""
+    tree = ast.parse((PACKAGE / (module + ".py")).read_text())
+    return [node.name for node in tree.body if isinstance(node, kind)]
+
+
+class TestInterface(Case):
+    def test_functions_stand_in_their_files(self):
+        for module, functions in FUNCTIONS.items():
+            defined = defined_in(module, ast.FunctionDef)
+            for name in functions:
+                with self.subTest(module=module, name=name):
+                    self.assertIn(name, defined)
+
+    def test_arguments(self):
+        for module, functions in FUNCTIONS.items():
+            for name, arguments in functions.items():
+                with self.subTest(module=module, name=name):
+                    found = inspect.signature(getattr(import_module("endkeepers." + module), name)).parameters
+                    self.assertEqual(list(found), arguments)
+                    for parameter in found.values():
+                        self.assertEqual(parameter.kind, inspect.Parameter.POSITIONAL_OR_KEYWORD)
+                        self.assertIs(parameter.default, inspect.Parameter.empty)
+
+    def test_classes_stand_in_their_files(self):
+        for module, classes in CLASSES.items():
+            defined = defined_in(module, ast.ClassDef)
+            for name in classes:
+                with self.subTest(module=module, name=name):
+                    self.assertIn(name, defined)
