@@ -6,7 +6,7 @@ from endkeepers.errors import Unfit
 from endkeepers.tellers import least, parting_row, teller_error, told
 
 from tests.helping import (
-    BEGINS, ENDS, FIFTH, FOLLOWING, HOLDING, LEAST_HOLDING, Case, chain, drawn_pairs, drawn_teller, drawn_tellers,
+    BEGINS, ENDS, FIFTH, FOLLOWING, HOLDING, Case, chain, drawn_pairs, drawn_teller, drawn_tellers,
     ring, rows_in_order, slow_least, slow_parting, slow_told, spread,
 )
 
