@@ -9,6 +9,20 @@ def is_whole(value, low, high):
     return isinstance(value, int) and not isinstance(value, bool) and low <= value <= high
 
 
+def read_number(word, high):
+    """Return the number from 0 to high that is written as word, or None if word is none.
+
+    A number is written in the figures 0 to 9, without a zero ahead of another figure.
+    """
+    # Python refuses to read numbers of thousands of figures, so long words are sent back unread.
+    if not word.isascii() or not word.isdecimal() or len(word) > len(str(high)):
+        return None
+    if len(word) > 1 and word[0] == "0":
+        return None
+    number = int(word)
+    return number if number <= high else None
+
+
 def numbered(marks):
     """Return the number of each mark, unlike marks being numbered as they first come."""
     numbers = {}

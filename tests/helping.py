@@ -11,6 +11,25 @@ BEGINS = (((1, 2), (1, 1), (2, 2)), (0, 1, 0))
 ENDS = (((1, 0), (1, 0)), (0, 1))
 FIFTH = (((1, 1), (2, 2), (3, 3), (4, 4), (5, 6), (5, 5), (6, 6)), (0, 0, 0, 0, 0, 1, 0))
 
+WORDS = ("put left", "put right", "slide", "take left", "take right")
+ENDS_OF_ROWS = ("put left", "put right", "take left", "take right")
+# The seventeen books, by their subsets and not as the program finds them.
+BOOKS = tuple(sorted(
+    [book for many in range(5) for book in itertools.combinations(ENDS_OF_ROWS, many)] + [("slide",)]
+))
+UNDOING, QUEUE, WINDOW = ("put right", "take right"), ("put right", "take left"), ("slide",)
+BARE, ALL_ENDS = ("take left", "take right"), ENDS_OF_ROWS
+
+# Values that are no tuples, and values that are no strings.
+NO_TUPLES = (
+    None, True, False, 0, 1, -1, 10 ** 400, "", "row", "two\nlines", [], [0], [("take left",)], [[], [()]], {},
+    {0: 1}, {"a": ("b",)}, {(0,): [1]},
+)
+NO_STRINGS = (
+    None, True, False, 0, 1, -1, 10 ** 400, [], [0], ["row", "none"], {}, {0: 1}, {"0 tells 0": "row"}, (), (0,),
+    ("0 tells 0",), (("slide",), ()),
+)
+
 
 def rows_in_order(many, longest):
     """All rows of at most so many letters, in the order of the document."""
@@ -99,6 +118,33 @@ def slow_parting(one, other):
         if slow_told(one, row) != slow_told(other, row):
             return row
     return None
+
+
+def slow_after(row, deed):
+    """The row behind a deed that can be done, letter by letter."""
+    letters = list(row)
+    if deed[0] in ("take left", "slide"):
+        letters.pop(0)
+    elif deed[0] == "take right":
+        letters.pop()
+    if deed[0] == "put left":
+        letters.insert(0, deed[1])
+    elif deed[0] in ("put right", "slide"):
+        letters.append(deed[1])
+    return tuple(letters)
+
+
+def drawn_run(draw, book, many, longest, most):
+    """A row and deeds of the book that can be done to it."""
+    row = tuple(draw.randrange(many) for _ in range(draw.randint(0, longest)))
+    length, deeds = len(row), []
+    for _ in range(draw.randint(0, most)):
+        words = [word for word in book if length > 0 or word in ("put left", "put right")]
+        if words:
+            word = draw.choice(words)
+            length += {"put": 1, "take": -1, "slide": 0}[word.split()[0]]
+            deeds.append((word,) if word.split()[0] == "take" else (word, draw.randrange(many)))
+    return row, tuple(deeds)
 
 
 class Case(unittest.TestCase):

@@ -17,6 +17,17 @@ FUNCTIONS = {
     "joining": {
         "mirrored": ["teller"], "paired": ["one", "other"], "joined": ["some"], "changed": ["teller", "table"],
     },
+    "tellertexts": {"teller_text": ["teller"], "read_teller": ["value"]},
+    "knowntellers": {"known_names": [], "known_teller": ["name", "many"]},
+    "books": {"book_error": ["value"], "all_books": [], "is_bare": ["book"], "mirrored_book": ["book"]},
+    "moving": {
+        "deeds_of": ["book", "many"], "deed_error": ["book", "many", "row", "value"],
+        "open_deeds": ["book", "many", "row"], "after": ["book", "many", "row", "deed"],
+        "led": ["book", "many", "row", "deeds"],
+    },
+    "runtexts": {
+        "run_text": ["row", "deeds"], "read_run": ["value"], "book_text": ["book"], "read_book": ["value"],
+    },
 }
 CLASSES = {
     "errors": [

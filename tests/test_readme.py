@@ -12,4 +12,4 @@ class TestReadme(Case):
     def test_examples(self):
         failed, tried = doctest.testfile(str(README), module_relative=False)
         self.assertEqual(failed, 0)
-        self.assertGreaterEqual(tried, 6)
+        self.assertGreaterEqual(tried, 20)
