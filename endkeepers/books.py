@@ -39,6 +39,21 @@ def is_bare(book):
     return book == ("take left", "take right")
 
 
+def has_take(book):
+    """Tell whether the book has a take."""
+    return "take left" in book or "take right" in book
+
+
+def grows_left(book):
+    """Tell whether rows grow at the left, by this book, when their histories are written down.
+
+    With one take they grow where letters go, with both takes or none where letters come.
+    """
+    if ("take left" in book) != ("take right" in book):
+        return "take left" in book
+    return "put left" in book and "put right" not in book
+
+
 def mirrored_book(book):
     """Return the book with left and right in each other's place; Unfit() for ("slide",)."""
     if "slide" in book:

@@ -1,12 +1,25 @@
 """What several modules need and the interface does not list."""
 
+from endkeepers.bounds import MAX_PAPER
 from endkeepers.errors import TooMany
+
+
+def is_integer(value):
+    """Tell whether value is an integer."""
+    # Python counts True and False as ints; the document does not.
+    return isinstance(value, int) and not isinstance(value, bool)
 
 
 def is_whole(value, low, high):
     """Tell whether value is an integer from low to high."""
-    # Python counts True and False as ints; the document does not.
-    return isinstance(value, int) and not isinstance(value, bool) and low <= value <= high
+    return is_integer(value) and low <= value <= high
+
+
+def is_paper_row(many, value):
+    """Tell whether value is a row of letters of many kinds, of as many as a paper's rows may have."""
+    if not isinstance(value, tuple) or len(value) > MAX_PAPER:
+        return False
+    return all([is_whole(letter, 0, many - 1) for letter in value])
 
 
 def read_number(word, high):
@@ -36,21 +49,158 @@ def explored(start, many, follow, limit):
     marks, each at its number, and the tuple of the moves between the numbers.
     Raises TooMany(limit) if there are more than limit marks.
     """
-    numbers = {start: 0}
-    marks = [start]
-    moves = []
     # A mark's letters are gone through behind those of all marks with earlier rows, in
     # order: so the earliest row that leads to a mark is the one that finds it.
-    while len(moves) < len(marks):
-        here = marks[len(moves)]
-        item = []
-        for letter in range(many):
-            there = follow(here, letter)
+    def by_letters(here):
+        return [(letter, follow(here, letter)) for letter in range(many)]
+
+    marks, steps = walked([start], by_letters, limit)
+    return marks, tuple([tuple([there for _, there in pairs]) for pairs in steps])
+
+
+def walked(starts, steps_from, limit):
+    """Go from the starts to all that steps lead to, numbering what is come to as it first is.
+
+    steps_from(mark) is the list of the pairs (label, mark) of the steps from a mark. Returns
+    the list of the marks, each at its number, and the list with, for each of them, the tuple
+    of the pairs (label, number of the mark to which the step leads).
+    Raises TooMany(limit) if there are more than limit marks.
+    """
+    numbers = {start: number for number, start in enumerate(starts)}
+    marks = list(starts)
+    steps = []
+    while len(steps) < len(marks):
+        pairs = []
+        for label, there in steps_from(marks[len(steps)]):
             if there not in numbers:
                 if len(marks) == limit:
                     raise TooMany(limit)
                 numbers[there] = len(marks)
                 marks.append(there)
-            item.append(numbers[there])
-        moves.append(tuple(item))
-    return marks, tuple(moves)
+            pairs.append((label, numbers[there]))
+        steps.append(tuple(pairs))
+    return marks, steps
+
+
+def led_by(steps, start, labels):
+    """Return the number of the mark to which steps of these labels lead from start."""
+    here = start
+    for label in labels:
+        here = dict(steps[here])[label]
+    return here
+
+
+def same_follow(steps, one, other):
+    """Tell whether the same rows of labels lead on from two marks, by the steps of walked."""
+    heads = list(range(len(steps)))
+    pairs = [(one, other)]
+    # Two marks are put into one lot as soon as they have to go alike; as each of these
+    # does away with a lot, there are fewer of them than marks.
+    while pairs:
+        one, other = pairs.pop()
+        first, second = _head_of(heads, one), _head_of(heads, other)
+        if first != second:
+            if [label for label, _ in steps[first]] != [label for label, _ in steps[second]]:
+                return False
+            heads[second] = first
+            pairs.extend([(left[1], right[1]) for left, right in zip(steps[first], steps[second])])
+    return True
+
+
+def _head_of(heads, mark):
+    """Return the head of the mark's lot, and make the way to it shorter."""
+    while heads[mark] != mark:
+        heads[mark] = heads[heads[mark]]
+        mark = heads[mark]
+    return mark
+
+
+def spot_of(turn, phase):
+    """Return where a phase stands on a way of b + p spots that goes round by p behind b; turn is (b, p)."""
+    start, length = turn
+    return phase if phase < start else start + (phase - start) % length
+
+
+def tallied(steps):
+    """Return for each mark the list of the pairs (number of a mark, how many steps lead to it)."""
+    found = []
+    for pairs in steps:
+        times = {}
+        for _, there in pairs:
+            times[there] = times.get(there, 0) + 1
+        found.append(list(times.items()))
+    return found
+
+
+def counted(machine, last):
+    """Return the list of the machine's numbers, from the number 0 to the number last.
+
+    A machine is a triple: what tallied returns, the list of what a way is worth that ends
+    at each mark, and the turn (b, p) of the starts. Its number n is the worth of all ways of n
+    steps from the mark spot_of((b, p), n).
+    """
+    tallies, worths, turn = machine
+    found = []
+    for number in range(last + 1):
+        found.append(worths[spot_of(turn, number)])
+        worths = [sum([times * worths[there] for there, times in pairs]) for pairs in tallies]
+    return found
+
+
+def shortest_way(steps, start, goals):
+    """Return the labels of a shortest way from start to one of the goals, and this one; goals is a list."""
+    ways = {start: []}
+    marks = [start]
+    at = 0
+    while marks[at] not in goals:
+        for label, there in steps[marks[at]]:
+            if there not in ways:
+                ways[there] = ways[marks[at]] + [label]
+                marks.append(there)
+        at += 1
+    return ways[marks[at]], marks[at]
+
+
+def reached(steps):
+    """Return for each mark the number whose bits tell to which marks one step or more lead."""
+    found = []
+    for pairs in steps:
+        bits = 0
+        for _, there in pairs:
+            bits |= 1 << there
+        found.append(bits)
+    for middle in range(len(steps)):
+        for here in range(len(steps)):
+            if found[here] >> middle & 1:
+                found[here] |= found[middle]
+    return found
+
+
+def rings_of(steps):
+    """Return for each mark the least mark of its ring, or None if it lies in none."""
+    reach = reached(steps)
+    found = []
+    for here, bits in enumerate(reach):
+        ring = [there for there in range(len(steps)) if bits >> there & 1 and reach[there] >> here & 1]
+        found.append(ring[0] if ring else None)
+    return found
+
+
+def branching_mark(steps, rings):
+    """Return a mark from which two steps or more stay in its ring, or None if no ring branches."""
+    for mark, pairs in enumerate(steps):
+        if rings[mark] is not None and len([there for _, there in pairs if rings[there] == rings[mark]]) > 1:
+            return mark
+    return None
+
+
+def rings_ahead(steps, rings):
+    """Return a dict with, for each ring, how many rings the way from it leads through that has the most."""
+    reach = reached(steps)
+    heads = sorted(set([ring for ring in rings if ring is not None]))
+    behind = {ring: [head for head in heads if head != ring and reach[ring] >> head & 1] for ring in heads}
+    most = {}
+    # From a ring fewer rings are come to than from those that lead to it.
+    for ring in sorted(heads, key=lambda head: len(behind[head])):
+        most[ring] = 1 + max([most[head] for head in behind[ring]], default=0)
+    return most

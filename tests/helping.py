@@ -1,8 +1,13 @@
 """What the tests share: rows in order, drawn tellers, and slow reckonings beside the program's."""
 
+import contextlib
+import functools
 import itertools
 import random
+import time
 import unittest
+
+from endkeepers.tellers import least
 
 FOLLOWING = (((1, 0), (1, 2), (2, 2)), (0, 0, 1))
 HOLDING = (((2, 0), (1, 1), (2, 2), (0, 3)), (0, 5, 1, 12))
@@ -28,6 +33,18 @@ NO_TUPLES = (
 NO_STRINGS = (
     None, True, False, 0, 1, -1, 10 ** 400, [], [0], ["row", "none"], {}, {0: 1}, {"0 tells 0": "row"}, (), (0,),
     ("0 tells 0",), (("slide",), ()),
+)
+TAKING_BOOKS = tuple(book for book in BOOKS if ("take left" in book or "take right" in book) and book != BARE)
+RESTING_BOOKS = ((), ("put left",), ("put left", "put right"), ("put right",))
+TOLD_BOOKS = tuple(book for book in BOOKS if book != BARE)
+# Values that are no numbers, for arguments that have to be numbers from 0 on.
+NO_NUMBERS = (
+    None, True, False, -1, -10 ** 399, "", "0", "300", (), (0,), [], [0], {}, {0: 0}, ("need", 0), [[], ()],
+)
+# Values that are no rows of letters of two kinds of at most 900 letters.
+NO_PAPER_ROWS = (
+    None, 0, True, "", "01", [], [0], {}, {0: 0}, (0,) * 901, (2,), (-1,), (0, True), (False,), (0, None), (0, (0,)),
+    ("0",), ((),), (10 ** 400,),
 )
 
 
@@ -147,6 +164,120 @@ def drawn_run(draw, book, many, longest, most):
     return row, tuple(deeds)
 
 
+least_once = functools.lru_cache(None)(least)
+
+
+def states_from(teller, state, row):
+    """The states of the least teller that a row leads through, from this one on."""
+    moves = least_once(teller)[0]
+    found = [state]
+    for letter in row:
+        found.append(moves[found[-1]][letter])
+    return found
+
+
+def slow_class(teller, book, row):
+    """The class of a row by the puts of the book, from state to state, by the table of the document."""
+    moves, tells = least_once(teller)
+    ends = [states_from(teller, state, row)[-1] for state in range(len(moves))]
+    if "put left" in book:
+        return tuple(ends) if "put right" in book else tuple(tells[state] for state in ends)
+    return ends[0] if "put right" in book else tells[ends[0]]
+
+
+@functools.lru_cache(None)
+def slow_agreement(teller, number):
+    """For each state the least one from which the same is told behind all rows of so many letters."""
+    moves, tells = least_once(teller)
+    rows = list(itertools.product(range(len(moves[0])), repeat=number))
+    futures = [[tells[states_from(teller, state, row)[-1]] for row in rows] for state in range(len(moves))]
+    return tuple(futures.index(future) for future in futures)
+
+
+def slow_item(teller, book, row):
+    """The item that comes last in the history of a row by a book with a take, by its pieces and their classes."""
+    if not {"take left", "take right"} <= set(book):
+        return slow_class(teller, book, row)
+    rightward = "put right" in book
+    if {"put left", "put right"} <= set(book):
+        return slow_class(teller, book, row[-1:]) if row else ()
+    if not row:
+        return (slow_class(teller, book, ()),)
+    if rightward:
+        pieces = [(row[i:-1], row[i:]) for i in range(len(row))]
+    else:
+        pieces = [(row[1:i], row[:i]) for i in range(1, len(row) + 1)]
+    classes = {(slow_class(teller, book, here), slow_class(teller, book, there)) for here, there in pieces}
+    return tuple(there for _, there in sorted(classes))
+
+
+def slow_history(teller, book, row):
+    """The history of a row, as the table of the document tells it."""
+    length = len(row)
+    if book == WINDOW:
+        return tuple(
+            slow_agreement(teller, k)[states_from(teller, 0, row[k:])[-1]] for k in range(length, -1, -1)
+        )
+    if not {"take left", "take right"} & set(book):
+        return (slow_class(teller, book, row),)
+    if "take left" not in book or ("take right" in book and "put right" in book):
+        return tuple(slow_item(teller, book, row[:j]) for j in range(length + 1))
+    return tuple(slow_item(teller, book, row[j:]) for j in range(length, -1, -1))
+
+
+def slow_need(teller, book, number):
+    """The number of unlike histories of all rows of so many letters."""
+    rows = itertools.product(range(len(teller[0][0])), repeat=number)
+    return len({slow_history(teller, book, row) for row in rows})
+
+
+def slow_partings(teller, book, one, other, most):
+    """The least number of deeds that tell two rows apart, by going through all deeds, to at most so many; or None."""
+    many = len(teller[0][0])
+    deeds = [
+        (word, letter) for word in book for letter in (range(many) if word.startswith(("put", "slide")) else (None,))
+    ]
+    pairs, seen = [(one, other)], {(one, other)}
+    for number in range(most + 1):
+        behind = []
+        for here, there in pairs:
+            if slow_told(teller, here) != slow_told(teller, there):
+                return number
+            for deed in deeds if number < most else ():
+                if here or deed[0].startswith("put"):
+                    pair = slow_after(here, deed), slow_after(there, deed)
+                    # Rows that are the same are never told apart again.
+                    if pair[0] != pair[1] and pair not in seen:
+                        seen.add(pair)
+                        behind.append(pair)
+        pairs = behind
+    return None
+
+
+def slow_turns(table, number):
+    """(b, p) of a list of tables that goes round, with so many of them looked at."""
+    for later in range(number):
+        for first in range(later):
+            if table[first] == table[later]:
+                return first, later - first
+    return None
+
+
+def long_turning(told):
+    """A teller of 21 states whose agreements go round only far out: b + p is 289 + told, for told from 9 to 13."""
+    moves = [((i + 1) % 19, 1 if i == 18 else (i + 1) % 19, 20) for i in range(19)] + [(19, 19, 19), (19, 19, 19)]
+    return tuple(moves), tuple(int(state == told) for state in range(20)) + (2,)
+
+
+def far_lengths(begin):
+    """A teller of 19 states, all telling unlike numbers, whose states behind rows of n letters go round far out.
+
+    For begin 8, 9 and 10 the states behind all rows of n letters go round with b + p of 299, 300 and 301.
+    """
+    moves = [((i + 1) % 19, begin + 3 if i == begin else (i + 1) % 19) for i in range(19)]
+    return tuple(moves), tuple(range(19))
+
+
 class Case(unittest.TestCase):
     """Assertions that know that True is not 1, and that a list is no tuple."""
 
@@ -160,3 +291,10 @@ class Case(unittest.TestCase):
             call(*args, **more)
         self.assertIs(type(caught.exception), error)
         self.assertSame(vars(caught.exception), fields)
+
+    @contextlib.contextmanager
+    def assertQuick(self, seconds):
+        """What stands below takes no longer than so many seconds, which is far more than it should."""
+        begun = time.monotonic()
+        yield
+        self.assertLess(time.monotonic() - begun, seconds)

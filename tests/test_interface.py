@@ -28,6 +28,43 @@ FUNCTIONS = {
     "runtexts": {
         "run_text": ["row", "deeds"], "read_run": ["value"], "book_text": ["book"], "read_book": ["value"],
     },
+    "classes": {
+        "state_of": ["teller", "row"], "told_from": ["teller", "row"], "action_of": ["teller", "row"],
+        "class_of": ["teller", "book", "row"], "letters_alike": ["teller"], "thinned": ["teller"],
+        "agreement": ["teller", "number"], "turns": ["teller"],
+    },
+    "histories": {
+        "history": ["teller", "book", "row"], "told_apart": ["teller", "book", "one", "other"],
+    },
+    "partings": {
+        "parting": ["teller", "book", "one", "other"],
+        "parting_error": ["teller", "book", "one", "other", "value"],
+    },
+    "counting": {
+        "ways": ["teller", "book"], "lot_of": ["teller", "book", "row"],
+        "go_alike": ["teller", "book", "one", "other"], "least_like": ["teller", "book", "row"],
+    },
+    "amounts": {
+        "need": ["teller", "book", "number"], "needs": ["teller", "book", "number"],
+        "bits": ["teller", "book", "number"],
+    },
+    "rules": {
+        "rule": ["teller", "book"], "rule_error": ["teller", "book", "value"],
+        "same_need": ["one", "book", "other", "another"],
+    },
+    "grades": {
+        "grade": ["teller", "book"], "most": ["teller", "book"], "books_within": ["teller", "number"],
+    },
+    "forkpapers": {
+        "fork": ["teller", "book"], "fork_error": ["teller", "book", "value"], "fork_least": ["paper", "number"],
+    },
+    "ringpapers": {
+        "rings": ["teller", "book"], "rings_error": ["teller", "book", "value"], "rings_least": ["paper", "number"],
+    },
+    "windows": {
+        "window_ways": ["teller"], "window_need": ["teller", "number"],
+        "window_items": ["teller", "rest", "row"], "window_place": ["teller", "rest", "row"],
+    },
 }
 CLASSES = {
     "errors": [
