@@ -1,6 +1,6 @@
 """Amounts: how many states a keeper must have."""
 
-from endkeepers.books import has_take, is_bare
+from endkeepers.books import has_take
 from endkeepers.bounds import MAX_COUNTING, MAX_NEED
 from endkeepers.common import counted, explored, is_whole, tallied, walked
 from endkeepers.counting import lots_of
@@ -17,7 +17,7 @@ def need(teller, book, number):
 
 def needs(teller, book, number):
     """Return the tuple of the needs of rows of no letters to so many letters."""
-    if is_bare(book) or not is_whole(number, 0, MAX_NEED):
+    if not is_whole(number, 0, MAX_NEED):
         raise Unfit()
     return tuple(counted(need_machine(teller, book), number))
 
@@ -28,13 +28,15 @@ def bits(teller, book, number):
 
 
 def need_machine(teller, book):
-    """Return what counts the needs of teller and book, as counted takes it; its marks are their size."""
-    if is_bare(book):
-        raise Unfit()
+    """Return what counts the needs of teller and book, as counted takes it; Unfit() for the bare book.
+
+    The size of teller and book is how many marks it has.
+    """
     if "slide" in book:
         return window_machine(teller)
     if not has_take(book):
         return _class_machine(teller, book)
+    # The bare book, which has takes, is refused there.
     tallies = tallied(lots_of(teller, book).steps)
     return tallies, [1] * len(tallies), (0, 1)
 

@@ -70,8 +70,9 @@ def walked(starts, steps_from, limit):
     marks = list(starts)
     steps = []
     while len(steps) < len(marks):
+        here = marks[len(steps)]
         pairs = []
-        for label, there in steps_from(marks[len(steps)]):
+        for label, there in steps_from(here):
             if there not in numbers:
                 if len(marks) == limit:
                     raise TooMany(limit)
@@ -153,9 +154,10 @@ def shortest_way(steps, start, goals):
     marks = [start]
     at = 0
     while marks[at] not in goals:
-        for label, there in steps[marks[at]]:
+        here = marks[at]
+        for label, there in steps[here]:
             if there not in ways:
-                ways[there] = ways[marks[at]] + [label]
+                ways[there] = ways[here] + [label]
                 marks.append(there)
         at += 1
     return ways[marks[at]], marks[at]

@@ -64,9 +64,10 @@ def _leads(moves):
     states = [0]
     at = 0
     while at < len(states):
-        for letter, there in enumerate(moves[states[at]]):
+        here = states[at]
+        for letter, there in enumerate(moves[here]):
             if there not in rows:
-                rows[there] = rows[states[at]] + (letter,)
+                rows[there] = rows[here] + (letter,)
                 states.append(there)
         at += 1
     return rows

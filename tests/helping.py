@@ -151,6 +151,11 @@ def slow_after(row, deed):
     return tuple(letters)
 
 
+def drawn_row(draw, many, length):
+    """A drawn row of so many letters."""
+    return tuple(draw.randrange(many) for _ in range(length))
+
+
 def drawn_run(draw, book, many, longest, most):
     """A row and deeds of the book that can be done to it."""
     row = tuple(draw.randrange(many) for _ in range(draw.randint(0, longest)))

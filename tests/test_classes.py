@@ -11,19 +11,14 @@ from endkeepers.knowntellers import known_teller
 from endkeepers.tellers import kinds, least, told
 
 from tests.helping import (
-    ALL_ENDS, BARE, BOOKS, FOLLOWING, HOLDING, NO_NUMBERS, QUEUE, WINDOW, Case, chain, drawn_teller, drawn_tellers,
-    long_turning, ring, rows_in_order, slow_agreement, slow_class, slow_least, slow_told, slow_turns, spread,
-    states_from,
+    ALL_ENDS, BARE, BOOKS, FOLLOWING, HOLDING, NO_NUMBERS, QUEUE, WINDOW, Case, chain, drawn_row, drawn_teller,
+    drawn_tellers, long_turning, ring, rows_in_order, slow_agreement, slow_class, slow_least, slow_told, slow_turns,
+    spread, states_from,
 )
 
 EVEN = (((1, 2), (3, 3), (2, 2), (1, 1)), (0, 0, 0, 1))
 # Books by their puts.
 NO_PUT = ((), BARE, ("take left",), ("take right",))
-
-
-def drawn_row(draw, many, length):
-    """A drawn row of so many letters."""
-    return tuple(draw.randrange(many) for _ in range(length))
 
 
 def tellers_and_rows(seed, times, states=24, longest=900):

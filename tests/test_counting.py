@@ -11,8 +11,8 @@ from endkeepers.tellers import kinds, least
 
 from tests.edges import BOTH_301, LOTS_300, LOTS_301, MARKS_300, MARKS_301, MIXING
 from tests.helping import (
-    ALL_ENDS, BARE, BOOKS, FOLLOWING, QUEUE, TAKING_BOOKS, UNDOING, WINDOW, Case, chain, drawn_teller, drawn_tellers,
-    rows_in_order, slow_class, slow_history, slow_item, spread, states_from,
+    ALL_ENDS, BARE, BOOKS, FOLLOWING, QUEUE, TAKING_BOOKS, UNDOING, WINDOW, Case, chain, drawn_row, drawn_teller,
+    drawn_tellers, rows_in_order, slow_class, slow_history, slow_item, spread, states_from,
 )
 
 HOLDS, ENDS, PARITY = known_teller("holds", 2), known_teller("ends", 2), known_teller("parity", 2)
@@ -78,11 +78,6 @@ def lots_by_history(teller, book, length):
     for row in itertools.product(range(kinds(teller)), repeat=length):
         lots.setdefault(slow_history(teller, book, row), set()).add(slow_mark(teller, book, row))
     return {items: tuple(sorted(marks)) for items, marks in lots.items()}
-
-
-def drawn_row(draw, many, length):
-    """A drawn row of so many letters."""
-    return tuple(draw.randrange(many) for _ in range(length))
 
 
 def by_steps(steps, items):

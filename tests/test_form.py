@@ -74,6 +74,15 @@ def bound_names():
             yield file, node.id
 
 
+def called(node):
+    """The name of what a node calls, with a dot ahead for a method; None if it calls nothing."""
+    if not isinstance(node, ast.Call):
+        return None
+    if isinstance(node.func, ast.Attribute):
+        return "." + node.func.attr
+    return node.func.id if isinstance(node.func, ast.Name) else None
+
+
 class TestForm(Case):
     def test_files(self):
         self.assertTrue(FILES)
@@ -191,3 +200,65 @@ class TestForm(Case):
         for file in FILES:
             with self.subTest(file=file.name):
                 self.assertIsNone(WORDS.search(file.read_text()))
+
+    def test_sets_are_used_on_the_spot(self):
+        for file, node in nodes(ast.AST):
+            for child in ast.iter_child_nodes(node):
+                made = isinstance(child, (ast.Set, ast.SetComp)) or called(child) in ("set", "frozenset")
+                if made:
+                    with self.subTest(file=file.name, line=child.lineno):
+                        self.assertTrue(called(node) in ("sorted", "len") or isinstance(node, ast.Compare))
+
+    def test_what_is_iterated_is_iterated_on_the_spot(self):
+        takers = ("list", "tuple", "dict", "sorted", "sum", "any", "all", "enumerate", "zip", "max", "min")
+        for file, node in nodes(ast.AST):
+            for child in ast.iter_child_nodes(node):
+                if called(child) in ("zip", "enumerate", "reversed", "range", ".items", ".keys", ".values"):
+                    with self.subTest(file=file.name, line=child.lineno):
+                        by_loop = isinstance(node, (ast.For, ast.comprehension)) and node.iter is child
+                        self.assertTrue(by_loop or (called(node) in takers and node.args[0] is child))
+
+    def test_loops_do_not_change_what_they_go_over(self):
+        changing = {"append", "extend", "insert", "pop", "remove", "reverse", "clear", "update", "setdefault", "sort"}
+        for file, loop in nodes(ast.For):
+            over = {node.id for node in ast.walk(loop.iter) if isinstance(node, ast.Name)}
+            for row in loop.body:
+                for node in ast.walk(row):
+                    changed = None
+                    if isinstance(node, ast.Attribute) and node.attr in changing:
+                        changed = node.value
+                    elif isinstance(node, ast.Subscript) and isinstance(node.ctx, ast.Store):
+                        changed = node.value
+                    while isinstance(changed, (ast.Subscript, ast.Attribute)):
+                        changed = changed.value
+                    if isinstance(changed, ast.Name):
+                        with self.subTest(file=file.name, line=node.lineno):
+                            self.assertNotIn(changed.id, over)
+
+    def test_no_exponents_and_no_generators(self):
+        self.assertEqual([(file.name, node.lineno) for file, node in nodes((ast.Pow, ast.GeneratorExp, ast.Yield))], [])
+
+    def test_signs_in_strings(self):
+        for file in FILES:
+            with self.subTest(file=file.name):
+                self.assertEqual(set(re.findall(r"\\(.)", file.read_text())) - set("nt\\'\""), set())
+        for file, node in nodes(ast.Constant):
+            if isinstance(node.value, str):
+                with self.subTest(file=file.name, line=node.lineno):
+                    self.assertNotIn("%", node.value)
+
+    def test_keywords_of_builtins(self):
+        known = {("sorted", "key"), ("sorted", "reverse"), ("min", "key"), ("max", "key"), ("min", "default"),
+                 ("max", "default"), ("sum", "start"), ("enumerate", "start")}
+        for file, node in nodes(ast.Call):
+            name = called(node)
+            if name in BUILTINS or (name or "").startswith("."):
+                with self.subTest(file=file.name, line=node.lineno):
+                    self.assertLessEqual({(name, keyword.arg) for keyword in node.keywords}, known)
+
+    def test_annotations_and_defaults_are_left_out(self):
+        for file, node in nodes((ast.FunctionDef, ast.Lambda)):
+            with self.subTest(file=file.name, line=node.lineno):
+                self.assertEqual(node.args.defaults + node.args.kw_defaults, [])
+                self.assertIsNone(node.args.vararg or node.args.kwarg)
+                self.assertIsNone(getattr(node, "returns", None))

@@ -8,17 +8,12 @@ from endkeepers.histories import history, told_apart
 from endkeepers.tellers import kinds
 
 from tests.helping import (
-    ALL_ENDS, BARE, FOLLOWING, HOLDING, QUEUE, TOLD_BOOKS, UNDOING, WINDOW, Case, chain, drawn_teller, drawn_tellers,
-    long_turning, rows_in_order, slow_history, slow_partings,
+    ALL_ENDS, BARE, FOLLOWING, HOLDING, QUEUE, TOLD_BOOKS, UNDOING, WINDOW, Case, chain, drawn_row, drawn_teller,
+    drawn_tellers, long_turning, rows_in_order, slow_history, slow_partings,
 )
 
 BOTH_TAKES_RIGHT = ("put right", "take left", "take right")
 BOTH_TAKES_LEFT = ("put left", "take left", "take right")
-
-
-def drawn_row(draw, many, length):
-    """A drawn row of so many letters."""
-    return tuple(draw.randrange(many) for _ in range(length))
 
 
 class TestHistory(Case):

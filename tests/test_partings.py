@@ -9,14 +9,9 @@ from endkeepers.partings import parting, parting_error
 from endkeepers.tellers import kinds, told
 
 from tests.helping import (
-    ALL_ENDS, BARE, FOLLOWING, HOLDING, NO_TUPLES, QUEUE, TOLD_BOOKS, UNDOING, WINDOW, Case, chain, drawn_teller,
-    drawn_tellers, ring, rows_in_order, slow_partings,
+    ALL_ENDS, BARE, FOLLOWING, HOLDING, NO_TUPLES, QUEUE, TOLD_BOOKS, UNDOING, WINDOW, Case, chain, drawn_row,
+    drawn_teller, drawn_tellers, ring, rows_in_order, slow_partings,
 )
-
-
-def drawn_row(draw, many, length):
-    """A drawn row of so many letters."""
-    return tuple(draw.randrange(many) for _ in range(length))
 
 
 class TestParting(Case):

@@ -171,6 +171,26 @@ class TestRingsError(Case):
         self.assertSame(rings_error(FOLLOWING, UNDOING, PAPER[:2] + ((1,), (0,))), ("way", 0))
         self.assertSame(rings_error(FOLLOWING, UNDOING, ((), (0,), (1,), ())), ("ring", 0))
 
+    def test_far_on_in_a_long_row_of_rings(self):
+        # Each 0 leaves a ring, and each 1 goes round.
+        many = tuple((min(state + 1, 23), state) for state in range(24)), tuple(range(24))
+        rows, row = [], ()
+        for number in range(24):
+            rows += [row, row + (1,)]
+            row = row + (1, 0)
+        self.assertSame(rings_error(many, UNDOING, tuple(rows)), None)
+        for number in (1, 2, 3, 11, 22, 23):
+            wrong = rows[:2 * number] + [rows[2 * number] + (0,)] + rows[2 * number + 1:]
+            self.assertSame(rings_error(many, UNDOING, tuple(wrong)), ("ring", number))
+            wrong = rows[:2 * number + 1] + [rows[2 * number] + (0,)] + rows[2 * number + 2:]
+            answer = ("ring", number) if number < 23 else None
+            self.assertSame(rings_error(many, UNDOING, tuple(wrong)), answer)
+        for number in (0, 1, 2, 3, 11, 22):
+            for more in ((), (1,), (1, 1)):
+                before = rows[2 * number + 1] + more
+                wrong = rows[:2 * number + 2] + [before, before + (1,)] + rows[2 * number + 4:]
+                self.assertSame(rings_error(many, UNDOING, tuple(wrong)), ("way", number))
+
     def test_a_step_goes_round_and_leaves_later(self):
         # A ring of three: the step may go on with one item, or with all of it, or with more than a round.
         moves = ((1, 1), (2, 2), (0, 3), (3, 3))
