@@ -135,3 +135,10 @@ MIXING = (
     tuple(((state + 1) % 24, (state * 7 + 1) % 24, 1 - state if state < 2 else state) for state in range(24)),
     tuple(range(24)),
 )
+# Tellers with turns (1, 3), (2, 3), (5, 3) and (1, 4), whose windows of unlike rests have unlike needs.
+TURNING = (
+    (((2, 3), (2, 0), (3, 1), (2, 1)), (1, 0, 1, 0)),
+    (((0, 2), (0, 1), (0, 3), (1, 0)), (0, 0, 1, 1)),
+    (((4, 3), (0, 3), (2, 1), (2, 3), (1, 3)), (0, 0, 0, 0, 1)),
+    (((1, 3), (1, 5), (2, 2), (4, 2), (5, 6), (2, 1), (0, 1)), (0, 0, 0, 1, 1, 0, 1)),
+)

@@ -10,7 +10,7 @@ from endkeepers.histories import history, told_apart
 from endkeepers.tellers import kinds, least
 from endkeepers.windows import window_items, window_need, window_place, window_ways
 
-from tests.edges import MIXING, PLACES_300, PLACES_301, WINDOW_MARKS_300, WINDOW_MARKS_301
+from tests.edges import MIXING, PLACES_300, PLACES_301, TURNING, WINDOW_MARKS_300, WINDOW_MARKS_301
 from tests.helping import (
     ENDS, FOLLOWING, NO_NUMBERS, QUEUE, WINDOW, Case, chain, drawn_row, drawn_teller, drawn_tellers, long_turning,
     ring, slow_need, slow_partings, spread, states_from,
@@ -71,7 +71,7 @@ class TestWindowWays(Case):
 
     def test_beside_pieces(self):
         turned = set()
-        for teller in list(drawn_tellers(400, 400, 6, 2, 1)) + [EVEN, MIXED]:
+        for teller in list(drawn_tellers(400, 400, 6, 2, 1)) + [EVEN, MIXED, *TURNING]:
             try:
                 found = window_ways(teller)
             except TooMany:
@@ -163,6 +163,23 @@ class TestWindowNeed(Case):
             self.assertSame(window_need(EVEN, number), 2 ** number if number % 2 == 0 else 1)
             self.assertSame(window_need(EVEN_LAST, number), 2 - number % 2)
             self.assertSame(window_need(ring(17, 3, 2), number), 1)
+
+    def test_rounds_of_three_and_four_beside_all_rows(self):
+        self.assertSame([turns(teller) for teller in TURNING], [(1, 3), (2, 3), (5, 3), (1, 4)])
+        for teller in TURNING:
+            for number in range(10):
+                self.assertSame(window_need(teller, number), slow_need(teller, WINDOW, number))
+
+    def test_by_three(self):
+        # 1 of rows that begin with 0 and have a number of letters that three divides.
+        three = (((1, 4), (2, 2), (3, 3), (1, 1), (4, 4)), (0, 0, 0, 1, 0))
+        # The same, of rows with one letter more, or two.
+        more = (((1, 4), (2, 2), (3, 3), (1, 1), (4, 4)), (0, 1, 0, 0, 0))
+        most = (((1, 4), (2, 2), (3, 3), (1, 1), (4, 4)), (0, 0, 1, 0, 0))
+        for left, teller in ((0, three), (1, more), (2, most)):
+            self.assertSame(turns(teller), (1 if left == 0 else 0, 3))
+            for number in (1, 2, 3, 4, 5, 6, 7, 298, 299, 300):
+                self.assertSame(window_need(teller, number), 2 ** number if number % 3 == left else 1)
 
     def test_by_the_slide_of_needs(self):
         for teller in drawn_tellers(403, 60, 5, 3, 2):
