@@ -1,6 +1,6 @@
 """What several modules need and the interface does not list."""
 
-from endkeepers.bounds import MAX_PAPER
+from endkeepers.bounds import MAX_NAME, MAX_PAPER
 from endkeepers.errors import TooMany
 
 
@@ -13,6 +13,13 @@ def is_integer(value):
 def is_whole(value, low, high):
     """Tell whether value is an integer from low to high."""
     return is_integer(value) and low <= value <= high
+
+
+def is_name(value):
+    """Tell whether value is a name that a bench may give: a few small letters."""
+    if not isinstance(value, str) or not 1 <= len(value) <= MAX_NAME:
+        return False
+    return all(["a" <= sign <= "z" for sign in value])
 
 
 def is_paper_row(many, value):
@@ -89,6 +96,24 @@ def led_by(steps, start, labels):
     for label in labels:
         here = dict(steps[here])[label]
     return here
+
+
+def least_to_left(lines):
+    """Return the least row that grows left: its first letter brings the last item.
+
+    A line has what may bring an item, by ascending letters: the letter, and the marks from and to which it leads.
+    """
+    # From the end of the row on: the marks of all rows that bring the items so far.
+    come = [{0: True}]
+    for line in lines:
+        come.append({there: True for _, mark, there in line if mark in come[-1]})
+    behind = come[-1]
+    row = []
+    for place in range(len(lines) - 1, -1, -1):
+        fits = [(letter, mark) for letter, mark, there in lines[place] if mark in come[place] and there in behind]
+        row.append(fits[0][0])
+        behind = {mark: True for letter, mark in fits if letter == fits[0][0]}
+    return tuple(row)
 
 
 def same_follow(steps, one, other):
@@ -188,16 +213,27 @@ def rings_of(steps):
     return found
 
 
-def branching_mark(steps, rings):
-    """Return a mark from which two steps or more stay in its ring, or None if no ring branches."""
+def branching_marks(steps, rings):
+    """Return the list of the marks from which two steps or more stay in their ring."""
+    found = []
     for mark, pairs in enumerate(steps):
         if rings[mark] is not None and len([there for _, there in pairs if rings[there] == rings[mark]]) > 1:
-            return mark
-    return None
+            found.append(mark)
+    return found
+
+
+def branching_mark(steps, rings):
+    """Return a mark from which two steps or more stay in its ring, or None if no ring branches."""
+    found = branching_marks(steps, rings)
+    return found[0] if found else None
 
 
 def rings_ahead(steps, rings):
-    """Return a dict with, for each ring, how many rings the way from it leads through that has the most."""
+    """Return a dict with, for each ring, how many rings the way from it leads through that has the most.
+
+    rings has for each mark a mark of its ring, the same one for all of them, or None. Marks
+    in no ring may be told as if they were rings: so blocks are counted.
+    """
     reach = reached(steps)
     heads = sorted(set([ring for ring in rings if ring is not None]))
     behind = {ring: [head for head in heads if head != ring and reach[ring] >> head & 1] for ring in heads}

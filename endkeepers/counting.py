@@ -2,7 +2,7 @@
 
 from endkeepers.books import grows_left, has_take, is_bare
 from endkeepers.bounds import MAX_COUNTING
-from endkeepers.common import explored, led_by, same_follow, walked
+from endkeepers.common import explored, least_to_left, led_by, same_follow, walked
 from endkeepers.errors import Unfit
 from endkeepers.histories import growth
 from endkeepers.tellers import kinds
@@ -47,7 +47,7 @@ class Lots:
             for mark, pairs in enumerate(self.table):
                 brings[pairs[letter][0]].append((letter, mark, pairs[letter][1]))
         lines = [brings[item] for item in items]
-        return _least_to_left(lines) if self.leftward else _least_to_right(lines, len(self.table))
+        return least_to_left(lines) if self.leftward else _least_to_right(lines, len(self.table))
 
 
 def _least_to_right(lines, many):
@@ -62,21 +62,6 @@ def _least_to_right(lines, many):
         behind = fit[len(lines) - 1 - place]
         letter, here = [(letter, there) for letter, mark, there in line if mark == here and there in behind][0]
         row.append(letter)
-    return tuple(row)
-
-
-def _least_to_left(lines):
-    """Return the least row that grows left: its first letter brings the last item."""
-    # From the end of the row on: the marks of all rows that bring the items so far.
-    come = [{0: True}]
-    for line in lines:
-        come.append({there: True for _, mark, there in line if mark in come[-1]})
-    behind = come[-1]
-    row = []
-    for place in range(len(lines) - 1, -1, -1):
-        fits = [(letter, mark) for letter, mark, there in lines[place] if mark in come[place] and there in behind]
-        row.append(fits[0][0])
-        behind = {mark: True for letter, mark in fits if letter == fits[0][0]}
     return tuple(row)
 
 

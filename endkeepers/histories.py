@@ -39,7 +39,7 @@ def put_ahead(moves, table, letter):
     return tuple([table[item[letter]] for item in moves])
 
 
-def _put_behind(moves, states, letter):
+def put_behind(moves, states, letter):
     """Return what a letter behind makes of a tuple of states."""
     return tuple([moves[state][letter] for state in states])
 
@@ -60,7 +60,7 @@ def marking(teller, book):
     else:
         ends = each if "put right" in book else tells
         first = each if "put left" in book else (0,)
-        onward = lambda mark, letter: _put_behind(moves, mark, letter)
+        onward = lambda mark, letter: put_behind(moves, mark, letter)
         read = lambda mark: tuple([ends[state] for state in mark])
 
     def class_by(mark):

@@ -9,12 +9,22 @@ from endkeepers.moving import deeds_of
 
 def run_text(row, deeds):
     """Return the text of the run of this row and these deeds."""
-    return "\n".join([_line("row", row)] + [_line(deed[0], deed[1:]) for deed in deeds])
+    return "\n".join([line_of("row", row)] + [deed_line(deed) for deed in deeds])
 
 
-def _line(word, letters):
+def line_of(word, letters):
     """Return the line of a word and the letters behind it."""
     return " ".join([word] + [str(letter) for letter in letters])
+
+
+def deed_line(deed):
+    """Return the line of a deed."""
+    return line_of(deed[0], deed[1:])
+
+
+def deeds_by_lines():
+    """Return, as a dict, for the lines of all deeds of letters of three kinds these deeds."""
+    return {deed_line(deed): deed for deed in deeds_of(WORDS, MAX_KINDS)}
 
 
 def read_run(value):
@@ -22,10 +32,10 @@ def read_run(value):
     if not isinstance(value, str):
         raise BadText(0)
     lines = value.split("\n")
-    row = _read_row(lines[0])
+    row = read_row(lines[0], "row")
     if row is None:
         raise BadText(0)
-    known = {_line(deed[0], deed[1:]): deed for deed in deeds_of(WORDS, MAX_KINDS)}
+    known = deeds_by_lines()
     deeds = []
     for place in range(1, len(lines)):
         if place > MAX_DEEDS or lines[place] not in known:
@@ -34,11 +44,11 @@ def read_run(value):
     return row, tuple(deeds)
 
 
-def _read_row(line):
-    """Return the row that a line tells, or None if it is no line of a row."""
+def read_row(line, first):
+    """Return the row that a line tells, or None if it is no line of this first word and a row."""
     words = line.split(" ")
     row = tuple([read_number(word, MAX_KINDS - 1) for word in words[1:]])
-    if words[0] != "row" or len(row) > MAX_ROW or None in row:
+    if words[0] != first or len(row) > MAX_ROW or None in row:
         return None
     return row
 

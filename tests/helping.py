@@ -41,6 +41,8 @@ TOLD_BOOKS = tuple(book for book in BOOKS if book != BARE)
 NO_NUMBERS = (
     None, True, False, -1, -10 ** 399, "", "0", "300", (), (0,), [], [0], {}, {0: 0}, ("need", 0), [[], ()],
 )
+# Values that are no rests of any teller.
+NO_RESTS = tuple(value for value in NO_NUMBERS if value != -1) + (-1, 10 ** 399)
 # Values that are no rows of letters of two kinds of at most 900 letters.
 NO_PAPER_ROWS = (
     None, 0, True, "", "01", [], [0], {}, {0: 0}, (0,) * 901, (2,), (-1,), (0, True), (False,), (0, None), (0, (0,)),

@@ -3,7 +3,7 @@
 import random
 
 from endkeepers.common import (
-    branching_mark, counted, explored, led_by, rings_ahead, rings_of, same_follow, shortest_way, spot_of, tallied,
+    branching_mark, branching_marks, counted, explored, is_name, led_by, rings_ahead, rings_of, same_follow, shortest_way, spot_of, tallied,
     walked,
 )
 from endkeepers.errors import TooMany
@@ -60,6 +60,20 @@ class TestWays(Case):
         self.assertSame(rings_ahead(STEPS, rings_of(STEPS)), {3: 1, 4: 2, 0: 3})
         twice = (((0, 1),), ((0, 0), (1, 0)))
         self.assertSame(branching_mark(twice, rings_of(twice)), 1)
+        both = (((0, 1), (1, 0)), ((0, 1),), ((0, 2), (1, 3)), ((0, 2), (1, 3)), ((0, 0), (1, 2)))
+        self.assertSame(branching_marks(both, rings_of(both)), [2, 3])
+        self.assertSame(branching_marks(STEPS, rings_of(STEPS)), [])
+
+    def test_lone_marks_told_as_rings(self):
+        lone = (((0, 1), (1, 3)), ((0, 2),), ((0, 3),), ((0, 3),))
+        self.assertSame(rings_ahead(lone, rings_of(lone)), {3: 1})
+        self.assertSame(rings_ahead(lone, [0, 1, 2, 3]), {3: 1, 2: 2, 1: 3, 0: 4})
+
+    def test_names(self):
+        for name in ("a", "z", "abcdefghijkl"):
+            self.assertSame(is_name(name), True)
+        for name in ("", "abcdefghijklm", "A", "a1", "a a", None, ["a"], ("a",), 0):
+            self.assertSame(is_name(name), False)
 
     def test_same_follow(self):
         self.assertSame(same_follow(STEPS, 0, 0), True)

@@ -3,24 +3,34 @@
 import copy
 
 from endkeepers.amounts import bits, need, needs
+from endkeepers.benches import Bench
+from endkeepers.benchlogs import bench_behind, log_text, read_log
 from endkeepers.books import all_books, book_error, is_bare, mirrored_book
 from endkeepers.classes import (
     action_of, agreement, class_of, letters_alike, state_of, thinned, told_from, turns,
 )
 from endkeepers.counting import go_alike, least_like, lot_of, ways
-from endkeepers.errors import BadRun, BadText, Refused, TooMany, Unfit
+from endkeepers.errors import BadLog, BadRun, BadText, Refused, TooMany, Unfit
 from endkeepers.forkpapers import fork, fork_error, fork_least
 from endkeepers.grades import books_within, grade, most
 from endkeepers.histories import history, told_apart
 from endkeepers.joining import changed, joined, mirrored, paired
+from endkeepers.judging import answers, broken, small
 from endkeepers.knowntellers import known_names, known_teller
 from endkeepers.moving import after, deed_error, deeds_of, led, open_deeds
+from endkeepers.packmoves import pack_after
+from endkeepers.packplaces import pack_at, pack_place
+from endkeepers.packs import length_of, pack, pack_error, pack_tells, width
 from endkeepers.partings import parting, parting_error
 from endkeepers.ringpapers import rings, rings_error, rings_least
 from endkeepers.rules import rule, rule_error, same_need
 from endkeepers.runtexts import book_text, read_book, read_run, run_text
+from endkeepers.shells import Shell
+from endkeepers.tables import counts, made, table_error
 from endkeepers.tellers import kinds, least, parting_row, row_error, teller_error, told
 from endkeepers.tellertexts import read_teller, teller_text
+from endkeepers.windowgrades import window_alike, window_grades
+from endkeepers.windowpapers import window_fork, window_fork_error, window_rings, window_rings_error
 from endkeepers.windows import window_items, window_need, window_place, window_ways
 
 from tests.edges import LOTS_301
@@ -31,6 +41,31 @@ from tests.helping import (
 EVEN = (((1, 2), (3, 3), (2, 2), (1, 1)), (0, 0, 0, 1))
 MANY_LOTS = {"teller": LOTS_301[0][1], "book": LOTS_301[0][0]}
 RING_PAPER = ((), (1,), (1, 0), (1, 0, 0), (1, 0, 0, 1), (1, 0, 0, 1, 0))
+TWO = (((1, 2, 0), (1, 3, 1), (3, 2, 2), (3, 3, 3)), (0, 1, 2, 3))
+TWO_PAPER = ((), (2,), (0, 2), (2, 0, 2), (1, 2, 0, 2), (0, 1, 2, 0, 2))
+LOG = ("put right",)
+TABLE = (((0,), ((0, (0, 1)),)), ((0, 1), ((1, (None, None)), (0, (None, None)))))
+PACK = ((0, 10 ** 30), (1, 0), (2, 5))
+CALLS_OF_A_LOG = (("load", (0, 1)), ("add", "mine", ENDS), ("do", ("take right",)), ("undo",), ("redo",))
+
+
+def bench_read(book, many):
+    """What is read of a new bench."""
+    bench = Bench(book=book, many=many)
+    return bench.book, bench.many, bench.named, bench.begun, bench.deeds, bench.row, bench.version, bench.undone
+
+
+def bench_asked(book, many, value):
+    """What a bench behind a log is asked."""
+    bench = bench_behind(book=book, many=many, value=value)
+    return bench.opened(), bench.tells(), bench.needs_now(), bench.joint_need(), bench.row, bench.least_now(name="mine")
+
+
+def said(lines):
+    """What a new shell answers."""
+    shell = Shell()
+    return tuple(shell.say(line=line) for line in lines)
+
 
 CALLS = (
     (teller_error, {"value": HOLDING}), (teller_error, {"value": [[[0]], {0: [1]}]}),
@@ -96,6 +131,34 @@ CALLS = (
     (window_ways, {"teller": EVEN}), (window_need, {"teller": EVEN, "number": 6}),
     (window_items, {"teller": EVEN, "rest": 1, "row": (1, 0)}),
     (window_place, {"teller": EVEN, "rest": 1, "row": (0,)}),
+    (window_grades, {"teller": EVEN}),
+    (window_fork, {"teller": EVEN, "rest": 1}), (window_fork, {"teller": EVEN, "rest": 0}),
+    (window_fork_error, {"teller": EVEN, "rest": 1, "value": ((), (0, 0), (1, 0))}),
+    (window_fork_error, {"teller": EVEN, "rest": 1, "value": ((), [0, {1: []}], (1,))}),
+    (window_rings, {"teller": TWO, "rest": 0}), (window_rings, {"teller": EVEN, "rest": 1}),
+    (window_rings_error, {"teller": TWO, "rest": 0, "value": TWO_PAPER}),
+    (window_rings_error, {"teller": TWO, "rest": 0, "value": ([(), {}], (0,))}),
+    (table_error, {"book": LOG, "many": 2, "value": TABLE}),
+    (table_error, {"book": LOG, "many": 2, "value": [TABLE, {0: [1]}]}),
+    (table_error, {"book": LOG, "many": 2, "value": (TABLE[0], ((0, 1), ((1, (None, None)), (0, (None, [{}])))))}),
+    (made, {"teller": FOLLOWING, "book": QUEUE, "size": 2}), (counts, {"table": TABLE}),
+    (answers, {"book": LOG, "many": 2, "table": TABLE, "row": (), "deeds": (("put right", 1),)}),
+    (broken, {"teller": FOLLOWING, "book": LOG, "table": TABLE}),
+    (broken, {"teller": ENDS, "book": LOG, "table": TABLE}),
+    (small, {"book": LOG, "many": 2, "table": made(FOLLOWING, LOG, 1)}),
+    (pack, {"teller": FOLLOWING, "book": QUEUE, "row": (1, 1, 0, 0, 1, 0)}),
+    (width, {"teller": FOLLOWING, "book": QUEUE}),
+    (pack_error, {"teller": FOLLOWING, "book": UNDOING, "value": PACK}),
+    (pack_error, {"teller": FOLLOWING, "book": UNDOING, "value": ([0, {}], (0, 0))}),
+    (pack_error, {"teller": FOLLOWING, "book": UNDOING, "value": PACK[:1] * 2}),
+    (length_of, {"some": PACK}), (pack_tells, {"teller": FOLLOWING, "book": UNDOING, "some": PACK}),
+    (pack_after, {"teller": FOLLOWING, "book": UNDOING, "some": PACK, "deed": ("put right", 0)}),
+    (pack_after, {"teller": FOLLOWING, "book": UNDOING, "some": PACK, "deed": ("take right",)}),
+    (pack_place, {"teller": FOLLOWING, "book": UNDOING, "some": ((0, 2), (1, 1), (2, 1))}),
+    (pack_at, {"teller": FOLLOWING, "book": UNDOING, "length": 5, "number": 9}),
+    (log_text, {"log": CALLS_OF_A_LOG}), (read_log, {"value": log_text(CALLS_OF_A_LOG)}),
+    (bench_read, {"book": QUEUE, "many": 3}), (bench_asked, {"book": UNDOING, "many": 2, "value": CALLS_OF_A_LOG}),
+    (said, {"lines": ("bench 2 put right, take left", "known next", "load 0 1", "needs", [], "put right 7", "run")}),
 )
 # These tell whether something holds, by True or False.
 BOOL_CALLS = (
@@ -104,6 +167,8 @@ BOOL_CALLS = (
     (told_apart, {"teller": FOLLOWING, "book": QUEUE, "one": (0, 0), "other": (1, 0)}),
     (go_alike, {"teller": FOLLOWING, "book": UNDOING, "one": (), "other": (1, 1, 1)}),
     (go_alike, {"teller": FOLLOWING, "book": UNDOING, "one": (), "other": (0,)}),
+    (window_alike, {"teller": EVEN, "rest": 1, "one": (), "other": (0, 0)}),
+    (window_alike, {"teller": EVEN, "rest": 1, "one": (), "other": (0,)}),
 )
 REFUSED = (
     (parting_row, {"one": FOLLOWING, "other": (((0,),), (0,))}, Unfit, {}),
@@ -148,6 +213,28 @@ REFUSED = (
     (window_need, {"teller": EVEN, "number": [{}]}, Unfit, {}),
     (window_items, {"teller": EVEN, "rest": {0: [1]}, "row": ()}, Unfit, {}),
     (window_place, {"teller": EVEN, "rest": 2, "row": ()}, Unfit, {}),
+    (window_grades, {"teller": long_turning(11)}, TooMany, {"limit": 300}),
+    (window_alike, {"teller": EVEN, "rest": [{}], "one": (), "other": ()}, Unfit, {}),
+    (window_fork, {"teller": EVEN, "rest": {0: [1]}}, Unfit, {}),
+    (window_fork_error, {"teller": EVEN, "rest": 2, "value": [{}]}, Unfit, {}),
+    (window_rings, {"teller": long_turning(12), "rest": [{}]}, TooMany, {"limit": 300}),
+    (window_rings_error, {"teller": EVEN, "rest": True, "value": [{}]}, Unfit, {}),
+    (table_error, {"book": BARE, "many": 2, "value": [{}]}, Unfit, {}),
+    (made, {"teller": FOLLOWING, "book": QUEUE, "size": [4]}, Unfit, {}),
+    (answers, {"book": LOG, "many": 2, "table": TABLE, "row": (), "deeds": (("put right", 0), [{}])}, BadRun, {"place": 1}),
+    (answers, {"book": LOG, "many": 2, "table": TABLE, "row": (0, 1), "deeds": ()}, Unfit, {}),
+    (broken, {"teller": FOLLOWING, "book": BARE, "table": TABLE}, Unfit, {}),
+    (small, {"book": BARE, "many": 2, "table": TABLE}, Unfit, {}),
+    (pack, {"teller": ENDS, "book": UNDOING, "row": ()}, Unfit, {}), (width, MANY_LOTS, TooMany, {"limit": 300}),
+    (pack_error, {"teller": FOLLOWING, "book": WINDOW, "value": [{}]}, Unfit, {}),
+    (pack_tells, {"teller": ENDS, "book": UNDOING, "some": ((0, 0),)}, Unfit, {}),
+    (pack_after, {"teller": FOLLOWING, "book": UNDOING, "some": PACK, "deed": ["put right", {}]}, Refused, {"word": "form"}),
+    (pack_place, {"teller": FOLLOWING, "book": UNDOING, "some": PACK}, TooMany, {"limit": 300}),
+    (pack_at, {"teller": FOLLOWING, "book": UNDOING, "length": [5], "number": {}}, Unfit, {}),
+    (read_log, {"value": ["undo", {}]}, BadText, {"line": 0}), (read_log, {"value": "undo\nput right 3"}, BadText, {"line": 1}),
+    (bench_behind, {"book": QUEUE, "many": 2, "value": (("load", ()), ["undo"])}, BadLog, {"place": 1}),
+    (bench_behind, {"book": ["slide"], "many": {}, "value": [{}]}, Unfit, {}),
+    (bench_read, {"book": QUEUE, "many": [2]}, Unfit, {}),
 )
 
 
@@ -202,7 +289,7 @@ class TestConventions(Case):
         self.assertRaised(BadText, {"line": 24}, read_teller, "\n".join([teller_text(FOLLOWING)] * 9))
 
     def test_whether_is_told_by_bools(self):
-        self.assertSame([call(**arguments) for call, arguments in BOOL_CALLS], [True, False] * 3)
+        self.assertSame([call(**arguments) for call, arguments in BOOL_CALLS], [True, False] * 4)
 
     def test_values_of_other_kinds_that_were_returned(self):
         returned = [call(**arguments) for call, arguments in CALLS]
@@ -215,7 +302,20 @@ class TestConventions(Case):
                 if value != rings(FOLLOWING, UNDOING):
                     found = rings_error(FOLLOWING, UNDOING, value)
                     self.assertIn(found if isinstance(found, str) else found[0], ("form", "ring", "way"))
+                self.assertIn(window_fork_error(EVEN, 1, value), ("form", "lengths", "begin", "alike", "onward", None))
+                found = window_rings_error(EVEN, 1, value)
+                self.assertTrue(found is None or found == "form" or found[0] in ("ring", "way"))
+                found = table_error(LOG, 2, value)
+                self.assertEqual(found is None, value in (TABLE, small(LOG, 2, made(FOLLOWING, LOG, 1))))
+                found = pack_error(FOLLOWING, UNDOING, value)
+                self.assertTrue(found is None or found == "form" or found[0] == "block")
+                self.assertRaises((Unfit, BadLog), bench_behind, UNDOING, 2, (value,))
+                self.assertIn(Shell().say(value), ("what", "no bench"))
                 if not isinstance(value, int):
+                    self.assertRaised(Unfit, {}, window_alike, FOLLOWING, value, (), ())
+                    self.assertRaised(Unfit, {}, window_fork, FOLLOWING, value)
+                    self.assertRaised(Unfit, {}, made, FOLLOWING, UNDOING, value)
+                    self.assertRaised(Unfit, {}, pack_at, FOLLOWING, UNDOING, 2, value)
                     self.assertRaised(Unfit, {}, agreement, FOLLOWING, value)
                     self.assertRaised(Unfit, {}, need, FOLLOWING, UNDOING, value)
                     self.assertRaised(Unfit, {}, books_within, FOLLOWING, value)

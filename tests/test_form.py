@@ -179,7 +179,7 @@ class TestForm(Case):
         own = own_names()
         for file, node in nodes(ast.Attribute):
             with self.subTest(file=file.name, line=node.lineno):
-                self.assertTrue(node.attr in METHODS or node.attr in own or node.attr == "__init__", node.attr)
+                self.assertTrue(node.attr in METHODS or node.attr in own or node.attr in ("__init__", "__name__"), node.attr)
 
     def test_statements(self):
         self.assertEqual([(file.name, node.lineno) for file, node in nodes(FORBIDDEN)], [])

@@ -65,13 +65,47 @@ FUNCTIONS = {
         "window_ways": ["teller"], "window_need": ["teller", "number"],
         "window_items": ["teller", "rest", "row"], "window_place": ["teller", "rest", "row"],
     },
+    "windowgrades": {"window_grades": ["teller"], "window_alike": ["teller", "rest", "one", "other"]},
+    "windowpapers": {
+        "window_fork": ["teller", "rest"], "window_fork_error": ["teller", "rest", "value"],
+        "window_rings": ["teller", "rest"], "window_rings_error": ["teller", "rest", "value"],
+    },
+    "tables": {
+        "table_error": ["book", "many", "value"], "made": ["teller", "book", "size"], "counts": ["table"],
+    },
+    "judging": {
+        "answers": ["book", "many", "table", "row", "deeds"], "broken": ["teller", "book", "table"],
+        "small": ["book", "many", "table"],
+    },
+    "packs": {
+        "pack": ["teller", "book", "row"], "width": ["teller", "book"], "pack_error": ["teller", "book", "value"],
+        "length_of": ["some"], "pack_tells": ["teller", "book", "some"],
+    },
+    "packmoves": {"pack_after": ["teller", "book", "some", "deed"]},
+    "packplaces": {
+        "pack_place": ["teller", "book", "some"], "pack_at": ["teller", "book", "length", "number"],
+    },
+    "benchlogs": {
+        "log_text": ["log"], "read_log": ["value"], "bench_behind": ["book", "many", "value"],
+    },
 }
 CLASSES = {
     "errors": [
         "KeeperError", "Unfit", "BadText", "BadLog", "BadRun", "Refused", "TooMany",
         "NothingToUndo", "NothingToRedo", "TooManyEdits",
     ],
+    "benches": ["Bench"], "shells": ["Shell"],
 }
+# The methods that are listed for the classes, each defined in its class itself, with their arguments.
+METHODS = {
+    ("benches", "Bench"): {
+        "__init__": ["book", "many"], "__eq__": ["other"], "add": ["name", "value"], "drop": ["name"], "load": ["value"],
+        "do": ["value"], "undo": [], "redo": [], "twin": [], "opened": [], "tells": [], "needs_now": [],
+        "joint_need": [], "can_part": ["name", "value"], "least_now": ["name"],
+    },
+    ("shells", "Shell"): {"__init__": [], "say": ["line"]},
+}
+ATTRIBUTES = ("book", "many", "named", "begun", "deeds", "row", "version", "undone")
 
 
 def defined_in(module, kind):
@@ -97,6 +131,31 @@ class TestInterface(Case):
                     for parameter in found.values():
                         self.assertEqual(parameter.kind, inspect.Parameter.POSITIONAL_OR_KEYWORD)
                         self.assertIs(parameter.default, inspect.Parameter.empty)
+
+    def test_all_modules_are_known_here(self):
+        found = {path.stem for path in PACKAGE.glob("*.py")} - {"__init__", "bounds"}
+        # These have what several modules need, and the lines of shells.
+        self.assertEqual(found - set(FUNCTIONS) - set(CLASSES), {"common", "hands", "lines"})
+
+    def test_methods_stand_in_their_classes(self):
+        for (module, name), methods in METHODS.items():
+            tree = ast.parse((PACKAGE / (module + ".py")).read_text())
+            body = next(node for node in tree.body if isinstance(node, ast.ClassDef) and node.name == name).body
+            defined = {node.name: node for node in body if isinstance(node, ast.FunctionDef)}
+            kind = getattr(import_module("endkeepers." + module), name)
+            for method, arguments in methods.items():
+                with self.subTest(name=name, method=method):
+                    self.assertIn(method, defined)
+                    found = inspect.signature(getattr(kind, method)).parameters
+                    self.assertEqual(list(found), ["self"] + arguments)
+                    for parameter in found.values():
+                        self.assertEqual(parameter.kind, inspect.Parameter.POSITIONAL_OR_KEYWORD)
+                        self.assertIs(parameter.default, inspect.Parameter.empty)
+
+    def test_attributes_are_set_when_a_bench_is_made(self):
+        bench = import_module("endkeepers.benches").Bench(("slide",), 2)
+        for name in ATTRIBUTES:
+            self.assertIn(name, vars(bench))
 
     def test_classes_stand_in_their_files(self):
         for module, classes in CLASSES.items():

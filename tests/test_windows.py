@@ -12,7 +12,7 @@ from endkeepers.windows import window_items, window_need, window_place, window_w
 
 from tests.edges import MIXING, PLACES_300, PLACES_301, TURNING, WINDOW_MARKS_300, WINDOW_MARKS_301
 from tests.helping import (
-    ENDS, FOLLOWING, NO_NUMBERS, QUEUE, WINDOW, Case, chain, drawn_row, drawn_teller, drawn_tellers, long_turning,
+    ENDS, FOLLOWING, NO_NUMBERS, NO_RESTS, QUEUE, WINDOW, Case, chain, drawn_row, drawn_teller, drawn_tellers, long_turning,
     ring, slow_need, slow_partings, spread, states_from,
 )
 
@@ -20,7 +20,6 @@ TWO = (((1, 2, 0), (1, 3, 1), (3, 2, 2), (3, 3, 3)), (0, 1, 2, 3))
 EVEN = (((1, 2), (3, 3), (2, 2), (1, 1)), (0, 0, 0, 1))
 EVEN_LAST = (((1, 1), (2, 0), (1, 1)), (0, 0, 1))
 MIXED = (((1, 2), (3, 4), (4, 0), (1, 5), (5, 1), (4, 3)), (0, 1, 0, 1, 1, 0))
-NO_RESTS = tuple(value for value in NO_NUMBERS if value != -1) + (-1, 10 ** 399)
 
 
 def slow_places(teller):
