@@ -8,7 +8,7 @@ from endkeepers.counting import least_like
 from endkeepers.errors import NothingToRedo, NothingToUndo, Refused, TooMany, TooManyEdits, Unfit
 from endkeepers.histories import told_apart
 from endkeepers.joining import joined
-from endkeepers.moving import after, deed_error, open_deeds
+from endkeepers.moving import after, open_deeds
 from endkeepers.tellers import kinds, row_error, teller_error, told
 
 
@@ -64,9 +64,6 @@ class Bench:
 
     def do(self, value):
         """Do the deed value to the row; return the version."""
-        wrong = deed_error(self.book, self.many, self.row, value)
-        if wrong is not None:
-            raise Refused(wrong)
         behind = after(self.book, self.many, self.row, value)
         return self._edited(self.named, self.begun, self.deeds + (value,), behind)
 

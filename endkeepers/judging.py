@@ -89,8 +89,8 @@ def small(book, many, table):
     if is_bare(book):
         raise Unfit()
     nexts = _nexts_of(table, deeds_of(book, many))
-    levels = [level for level, (_, states) in enumerate(table) for _ in states]
-    tells = [number for _, states in table for number, _ in states]
+    levels = [level for level, size in enumerate(counts(table)) for _ in range(size)]
+    tells = [state[0] for _, states in table for state in states]
     lots = _lots_of(levels, tells, nexts)
     firsts = [lots.index(lot) for lot in range(max(lots) + 1)]
     begins = _begins_of(table)

@@ -50,13 +50,14 @@ def _turned(moves, deed, label):
 def _follow(way, labels, number):
     """Go on by so many labels, which come round and round."""
     gone = 0
+    # How many labels were gone when the next label and the lot stood so.
     seen = {}
     while gone < number:
         here = (gone % len(labels), way.lot)
         if here in seen:
-            # Both stand as they stood: so the way has stayed in its ring, and goes round to the end.
-            round_length = gone - seen[here]
-            leap = (number - gone) // round_length * round_length
+            # The way is where it was, so it has stayed in a ring, and goes round like this as long as labels come.
+            back = gone - seen[here]
+            leap = (number - gone) // back * back
             way.go_round(leap)
             gone += leap
             seen = {}

@@ -73,7 +73,8 @@ def made(teller, book, size):
     levels = rows_by_levels(kinds(teller), size)
     numbers = {}
     for rows in levels:
-        for row, number in zip(rows, numbered([history(teller, book, row) for row in rows])):
+        found = numbered([history(teller, book, row) for row in rows])
+        for row, number in zip(rows, found):
             numbers[row] = number
     return tuple([_made_level(teller, book, rows, numbers, size) for rows in levels])
 

@@ -238,6 +238,41 @@ class TestForm(Case):
     def test_no_exponents_and_no_generators(self):
         self.assertEqual([(file.name, node.lineno) for file, node in nodes((ast.Pow, ast.GeneratorExp, ast.Yield))], [])
 
+    def test_classes(self):
+        allowed = {"__init__", "__eq__", "__repr__", "__str__", "__len__"}
+        methods, attributes = set(), set()
+        for file, node in nodes(ast.ClassDef):
+            for part in node.body:
+                with self.subTest(file=file.name, line=part.lineno):
+                    self.assertTrue(isinstance(part, ast.FunctionDef) or part is node.body[0])
+                    if isinstance(part, ast.FunctionDef):
+                        self.assertTrue(not part.name.startswith("__") or part.name in allowed)
+                        methods.add(part.name)
+                        if part.name == "__eq__":
+                            self.assertEqual(len(part.body), 1)
+                            self.assertRegex(ast.unparse(part), r"return isinstance\(other, [A-Z][A-Za-z]*\) and ")
+        for file, node in nodes(ast.Attribute):
+            if isinstance(node.ctx, ast.Store):
+                attributes.add(node.attr)
+                with self.subTest(file=file.name, line=node.lineno):
+                    self.assertIsInstance(node.value, ast.Name)
+        self.assertEqual(methods & attributes, set())
+        builtin = {name for kind in (str, list, dict, set, bytes, int) for name in dir(kind)} - {"__init__", "__eq__"}
+        self.assertEqual((methods | attributes) & builtin, {"add"})
+
+    def test_nothing_is_sorted_in_place_and_no_set_is_stored(self):
+        for file, node in nodes(ast.Attribute):
+            with self.subTest(file=file.name, line=node.lineno):
+                self.assertNotIn(node.attr, ("sort", "discard"))
+                if node.attr == "add":
+                    self.assertEqual(ast.unparse(node.value), "bench")
+
+    def test_errors_that_are_caught(self):
+        own = {node.name for file, node in nodes(ast.ClassDef) if file.name == "errors.py"}
+        for file, node in nodes(ast.ExceptHandler):
+            with self.subTest(file=file.name, line=node.lineno):
+                self.assertIn(ast.unparse(node.type), own)
+
     def test_signs_in_strings(self):
         for file in FILES:
             with self.subTest(file=file.name):

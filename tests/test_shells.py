@@ -21,7 +21,7 @@ LINES = (
 )
 NO_LINES = (
     "", " ", "\n", "rows", "row ", " row", "Row", "row row", "row 0", "run 0", "names a", "tells a", "needs a", "joint a",
-    "open 0", "book 0", "put", "put ", "put right", "put right ", "put right  0", "put right 10", "put right a",
+    "open 0", "book 0", "put", "put ", "put right", "put right ", "put right  0", "put right 10", "put left 10", "put right a",
     "put right 0 ", "put right -1", "put up 0", "put left right 0", "put  left 0", "take", "take left 0", "take left ",
     "take  left", "take up", "slide", "slide 10", "slide left 0", "slide  0", "undo ", "undo 1", "redo 1", "undoredo",
     "bench", "bench ", "bench 2", "bench put left", "bench 22 none", "bench  2 none", "bench two none", "bench -1 none",
